@@ -1,0 +1,1 @@
+"""Everydraw: sayings about drawings, for every place of what is free."""
