@@ -13,6 +13,16 @@ def common_divisor(one, other):
     return one
 
 
+def is_whole(some):
+    return isinstance(some, int) and not isinstance(some, bool)
+
+
+def is_fraction(some):
+    if not isinstance(some, tuple) or len(some) != 2 or not is_whole(some[0]) or not is_whole(some[1]):
+        return False
+    return some[1] >= 1 and common_divisor(some[0], some[1]) == 1
+
+
 def fraction_of(top, bottom):
     if bottom == 0:
         raise NoBottom("a fraction's bottom is 0")

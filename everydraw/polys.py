@@ -70,13 +70,20 @@ def unpacked(total, width):
     return [(powers_of(key, width), total[key]) for key in sorted(total, reverse=True) if total[key] != 0]
 
 
+def add_products(total, left, right):
+    for key, number in left:
+        for shift, part in right:
+            whole = key + shift
+            if whole in total:
+                total[whole] += number * part
+            else:
+                total[whole] = number * part
+
+
 def poly_times(one, other):
     width = width_for(one, other)
-    right = packed(other, width)
     total = {}
-    for key, number in packed(one, width):
-        for shift, part in right:
-            total[key + shift] = total.get(key + shift, 0) + number * part
+    add_products(total, packed(one, width), packed(other, width))
     return unpacked(total, width)
 
 
