@@ -323,6 +323,20 @@ class Refusals(unittest.TestCase):
                         steps = ALL_WORDS[:k] + [step[:place] + (number,) + step[place + 1:]]
                         self.refused(steps, k, BadThing, number != wrong[0])
 
+    def test_bad_thing_of_each_other_kind(self):
+        # A point, a line, a circle and a curve, so that each entry can name one of each kind.
+        things = [O, P, Q, ("told", (2, 1), (3, 1)), ("told", (3, 1), (5, 1)), ("through", 0, 1), ("round3", 0, 1, 2),
+                  ("five", 0, 1, 2, 3, 4)]
+        number = {"p": 1, "l": 5, "o": 6, "v": 7, "f": (1, 2)}
+        for word, due in ENTRIES.items():
+            right = (word,) + tuple(number[one] for one in due)
+            self.allowed(things + [right])
+            for place, one in enumerate(due, start=1):
+                for other in range(8):
+                    if one != "f" and KINDS[things[other][0]] not in NAMED[one]:
+                        wrong = right[:place] + (other,) + right[place + 1:]
+                        self.refused(things + [wrong], 8, BadThing, True)
+
     def test_bad_thing_of_a_later_step(self):
         self.refused([O, ("through", 0, 2), P], 1, BadThing)
         self.refused([("through", 0, 1), O, P], 0, BadThing)
