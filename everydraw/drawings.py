@@ -14,7 +14,7 @@ MOST_POWERS = 1000
 MOST_SIZE = 40
 MOST_IN_FRACTION = 999999
 
-# Of each word the kind of its step's thing, and behind it what its entries are; bent is a circle or a curve.
+# Of each word the kind of its step's thing, and behind it what its entries are.
 WORDS = {
     "free": ("point",),
     "told": ("point", "fraction", "fraction"),
@@ -38,10 +38,12 @@ WORDS = {
     "five": ("curve", "point", "point", "point", "point", "point"),
 }
 BROUGHT = {"free": 2, "slide": 1, "roll": 1}
+# What is due may be one of several kinds; a trace, which sayings alone name, is whatever a point can lie on.
+KINDS_DUE = {"bent": ("circle", "curve"), "trace": ("line", "circle", "curve")}
 
 
 def is_kind(kind, due):
-    return kind == due or (due == "bent" and kind in ("circle", "curve"))
+    return kind == due or kind in KINDS_DUE.get(due, ())
 
 
 # The steps of a drawing, none of which was refused, and what was reckoned of them; firsts are the numbers of the
@@ -150,6 +152,12 @@ def content_of(polys):
     return max(content, 1)
 
 
+# What the raw rule of a step makes of the polynomials of the earlier things.
+def raw_at(drawing, k, things):
+    step = drawing.steps[k]
+    return raw_of(poly_total, step, things, free_polys(drawing.firsts[k], brought_by(step)))
+
+
 # The share is the greatest number that divides all that the raw rule makes: without that the numbers of parts of
 # parts would double their length step by step.
 def paper_entry(raw):
@@ -165,9 +173,7 @@ def things_in(paper):
 def write_paper(drawing):
     things = things_in(drawing.paper)
     for k in range(len(things), len(drawing.steps)):
-        step = drawing.steps[k]
-        raw = raw_of(poly_total, step, things, free_polys(drawing.firsts[k], brought_by(step)))
-        drawing.paper.append(paper_entry(raw))
+        drawing.paper.append(paper_entry(raw_at(drawing, k, things)))
         things.append(drawing.paper[k][1])
 
 
@@ -283,6 +289,5 @@ def musts_of(steps, paper):
     things = things_in(paper)
     found = []
     for k, step in enumerate(drawing.steps):
-        raw = raw_of(poly_total, step, things, free_polys(drawing.firsts[k], brought_by(step)))
-        found.append(musts_by(poly_total, step, things, raw))
+        found.append(musts_by(poly_total, step, things, raw_at(drawing, k, things)))
     return found

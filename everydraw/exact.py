@@ -45,17 +45,27 @@ def shown_thing(kind, thing):
     return (kind,) + thing
 
 
+def is_place(drawing, place):
+    return isinstance(place, list) and len(place) == drawing.freedoms and all([is_fraction(one) for one in place])
+
+
 def look_place(drawing, place):
-    if not isinstance(place, list) or len(place) != drawing.freedoms or not all([is_fraction(one) for one in place]):
+    if not is_place(drawing, place):
         raise BadPlace("a place has one fraction for each free number")
 
 
-def drawn_at(steps, place):
-    drawing = drawing_of(steps)
+# All things of a drawing at a place.
+def made_at(drawing, place):
     look_place(drawing, place)
     things = things_at(drawing, place)
     if undone_among(drawing, things) is not None:
         raise CantMake(len(things))
+    return things
+
+
+def drawn_at(steps, place):
+    drawing = drawing_of(steps)
+    things = made_at(drawing, place)
     return [shown_thing(kind, thing) for kind, thing in zip(drawing.kinds, things)]
 
 

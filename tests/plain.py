@@ -343,6 +343,16 @@ def weights_by(steps, sizes=False):
     return things
 
 
+def raw_paper(steps, turn=None):
+    """A paper whose shares are all 1, so that nothing is divided out, but - 1 at the step turn."""
+    things, paper = [], []
+    for k, (step, frees) in enumerate(zip(steps, frees_of(steps))):
+        sign = -1 if k == turn else 1
+        things.append(tuple(sign * plain(some) for some in raw_by(step, things, [free(number) for number in frees])))
+        paper.append((plain(sign).told(), told(things[-1])))
+    return paper
+
+
 def made(seed, terms, places, most, size):
     """A polynomial of chance terms, in so many free numbers, with powers and numbers of at most so much."""
     chance = random.Random(seed)

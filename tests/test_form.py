@@ -158,6 +158,11 @@ class Form(unittest.TestCase):
             and (len(node.generators) != 1 or len(node.generators[0].ifs) > 1)
         ))
         self.none_of(self.where(
+            lambda node: isinstance(node, ast.FormattedValue) and not (
+                isinstance(node.value, ast.Name) and node.conversion in (-1, ord("r")) and node.format_spec is None
+            )
+        ))
+        self.none_of(self.where(
             lambda node: isinstance(node, ast.Constant)
             and not (node.value is None or node.value.__class__ in (bool, int, str))
         ))
@@ -203,6 +208,70 @@ class Form(unittest.TestCase):
             for node in ast.walk(tree):
                 if not isinstance(node, ast.ClassDef):
                     self.none_of([(name, bound) for bound in bound_names(node) if bound in kept])
+
+    def test_l15_lists_and_dicts_of_a_file_s_top_are_only_read(self):
+        for name, tree in trees():
+            parents = {child: node for node in ast.walk(tree) for child in ast.iter_child_nodes(node)}
+            tops = [part for part in tree.body if isinstance(part, ast.Assign)]
+            for top in tops:
+                held = [node for node in ast.walk(top.value) if isinstance(node, (ast.List, ast.Dict))]
+                self.assertTrue(held in ([], [top.value]), (name, top.lineno))
+            kept = [top.targets[0].id for top in tops if isinstance(top.value, (ast.List, ast.Dict))]
+            for node in ast.walk(tree):
+                if isinstance(node, ast.Name) and isinstance(node.ctx, ast.Load) and node.id in kept:
+                    self.assertTrue(self.is_read(node, parents[node]), (name, node.lineno))
+
+    def is_read(self, node, parent):
+        if isinstance(parent, ast.Subscript):
+            return parent.value is node and isinstance(parent.ctx, ast.Load)
+        if isinstance(parent, ast.Compare):
+            return all(isinstance(sign, (ast.In, ast.NotIn, ast.Eq, ast.NotEq)) for sign in parent.ops)
+        if isinstance(parent, (ast.For, ast.comprehension)):
+            return parent.iter is node
+        if isinstance(parent, ast.Attribute):
+            return parent.attr in ("get", "keys", "values", "items", "index", "count")
+        return (isinstance(parent, ast.Call) and isinstance(parent.func, ast.Name)
+                and parent.func.id in ("len", "list", "dict", "sorted"))
+
+    def test_l18_classes_methods_and_values(self):
+        stored = [node for _, node in nodes() if isinstance(node, ast.Attribute) and isinstance(node.ctx, ast.Store)]
+        values = {node.attr for node in stored}
+        self.assertEqual(values & own_methods(), set())
+        for name, tree in trees():
+            classes = {part.name for part in tree.body if isinstance(part, ast.ClassDef)}
+            classes |= {alias.name for part in imports_of(tree) for alias in part.names if alias.name[0].isupper()
+                        and not alias.name.isupper()}
+            used = set()
+            for node in ast.walk(tree):
+                if isinstance(node, ast.Call):
+                    used.add(node.func)
+                    if isinstance(node.func, ast.Name) and node.func.id == "isinstance":
+                        used |= set(ast.walk(node.args[1]))
+                if isinstance(node, ast.Attribute) and node.attr == "__init__":
+                    used.add(node.value)
+                if isinstance(node, ast.ClassDef):
+                    self.assertEqual(len({part.name for part in node.body if isinstance(part, ast.FunctionDef)}),
+                                     len([part for part in node.body if isinstance(part, ast.FunctionDef)]), name)
+                    used |= set(node.bases)
+                if isinstance(node, ast.ExceptHandler):
+                    used |= set(ast.walk(node.type))
+            for node in ast.walk(tree):
+                if isinstance(node, ast.Name) and node.id in classes:
+                    self.assertIn(node, used, (name, node.lineno))
+
+    def test_l22_l24_keywords_and_sets(self):
+        allowed = {
+            "sorted": ("key", "reverse"), "min": ("key", "default"), "max": ("key", "default"), "sum": ("start",),
+            "enumerate": ("start",), "zip": ("strict",),
+        }
+        for name, node in nodes():
+            self.assertNotIsInstance(node, ast.Set, name)
+            if isinstance(node, ast.Call) and node.keywords and isinstance(node.func, ast.Name):
+                if hasattr(builtins, node.func.id):
+                    for keyword in node.keywords:
+                        self.assertIn(keyword.arg, allowed.get(node.func.id, ()), (name, node.lineno))
+            if isinstance(node, ast.Name):
+                self.assertNotIn(node.id, ("set", "frozenset"), (name, node.lineno))
 
     def test_l20_is(self):
         self.none_of(self.where(
