@@ -203,7 +203,10 @@ class WrongAlways(Judging):
         wrong = ([((1,), 1)], ([((2,), 1)], [((1, 1), 1)], [((1,), 1)]))
         self.wrong(self.with_entry(self.paper, 2, wrong))
         self.wrong(self.with_entry(self.paper, 2, ([((-1,), 1)], wrong[1])))
-        self.wrong(self.with_entry(self.paper, 2, ([((1,), 1)], (ONE, [((-1, 1), 1)], [((-1,), 1)]))))
+        below = ([((1,), 1)], (ONE, [((-1, 1), 1)], [((-1,), 1)]))
+        self.wrong(self.with_entry(self.paper, 2, below))
+        self.no([FREE], ("same", 0, 0), always_by([below]))
+        self.no([FREE], ("same", 0, 0), always_by([([((-1,), 1)], wrong[1])]))
 
     def test_a_tuple_of_another_kind(self):
         for k, (share, thing) in enumerate(self.paper):
@@ -290,6 +293,9 @@ class WrongNever(Judging):
             paper = paper_of(steps)
             for step in range(len(steps)):
                 self.no(steps, self.SAYING, never_by(step, paper[:step]))
+            # A step behind the last one.
+            self.no(steps, self.SAYING, never_by(len(steps), paper))
+            self.no(steps, self.SAYING, never_by(len(steps) + 1, paper + paper[:1]))
 
     def test_a_step_without_musts(self):
         # All of its polynomials are 0, but it has no musts.
