@@ -5,16 +5,15 @@ from everydraw.errors import BadChain, BadThing, NoName
 from everydraw.fracs import is_whole
 
 GIVEN_KINDS = ("point", "line", "circle")
-HALF = (1, 2)
 
 # Of each name the kinds of what is given, the steps, and the number of the chain's thing.
 CHAINS = {
-    "middle": (("point", "point"), (("part", 0, 1, HALF),), 2),
+    "middle": (("point", "point"), (("part", 0, 1, (1, 2)),), 2),
     "height": (("point", "point", "point"), (("through", 1, 2), ("square", 0, 3)), 4),
-    "halfline": (("point", "point"), (("through", 0, 1), ("part", 0, 1, HALF), ("square", 3, 2)), 4),
+    "halfline": (("point", "point"), (("through", 0, 1), ("part", 0, 1, (1, 2)), ("square", 3, 2)), 4),
     "roundmiddle": (("point", "point", "point"), (("round3", 0, 1, 2), ("centre", 3)), 4),
     # Two thirds of the way from the first point to the middle of the other two: so it is made of any points.
-    "weightpoint": (("point", "point", "point"), (("part", 1, 2, HALF), ("part", 0, 3, (2, 3))), 4),
+    "weightpoint": (("point", "point", "point"), (("part", 1, 2, (1, 2)), ("part", 0, 3, (2, 3))), 4),
     "heightpoint": (
         ("point", "point", "point"),
         (("through", 1, 2), ("square", 0, 3), ("through", 0, 2), ("square", 1, 5), ("meet", 4, 6)),
@@ -22,11 +21,11 @@ CHAINS = {
     ),
     "nineround": (
         ("point", "point", "point"),
-        (("part", 1, 2, HALF), ("part", 0, 2, HALF), ("part", 0, 1, HALF), ("round3", 3, 4, 5)),
+        (("part", 1, 2, (1, 2)), ("part", 0, 2, (1, 2)), ("part", 0, 1, (1, 2)), ("round3", 3, 4, 5)),
         6,
     ),
     # Twice the way from the first point to the middle of the other two.
-    "fourth": (("point", "point", "point"), (("part", 1, 2, HALF), ("part", 0, 3, (2, 1))), 4),
+    "fourth": (("point", "point", "point"), (("part", 1, 2, (1, 2)), ("part", 0, 3, (2, 1))), 4),
 }
 
 

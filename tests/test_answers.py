@@ -278,13 +278,18 @@ class FailsSomewhere(Asked):
         return steps, point
 
     def test_where_it_holds_at_the_places_that_are_tried(self):
-        for roots in ([3, -7], [1, 3], [-7, 1], [0, 1], [5, 5]):
+        tried = [numbers[0] for numbers in answers.PROBES]
+        for roots in (tried[:2], tried[1:], [tried[2], tried[0]], [0, 1], [5, 5]):
             steps, point = self.products(roots)
+            # A line that is made nowhere but where t is unlike the one that is left.
+            other = [number for number in tried if number not in roots][0]
+            steps += [("told", (other, 1), (0, 1)), ("through", 6, len(steps))]
             self.assertLessEqual(len(steps), 24)
-            for t in (-8, -7, 0, 1, 3, 5, 11):
+            for t in [-8, -7, 0, 1, 3, 5, 11] + tried:
                 place = [(t, 1)]
                 if undone_at(steps, place) is None:
                     self.assertIs(holds_at(steps, ("same", point, 0), place), t in roots)
+                    self.assertNotEqual(t, other)
             self.fails(steps, ("same", point, 0))
             self.fails(steps, ("on", point, 3))
             self.always(steps, ("on", point, 4))

@@ -147,6 +147,21 @@ class Form(unittest.TestCase):
             bound = [one for part in tree.body for one in self.top_names(part)]
             self.assertEqual(len(bound), len(set(bound)), name)
 
+    def test_l3_names_of_a_file_s_top_have_plain_values(self):
+        for name, tree in trees():
+            above = set()
+            for part in tree.body:
+                if isinstance(part, ast.FunctionDef):
+                    above.add(part.name)
+                if isinstance(part, ast.Assign):
+                    self.assertIsInstance(part.targets[0], ast.Name, name)
+                    for node in ast.walk(part.value):
+                        if isinstance(node, ast.Name):
+                            self.assertIn(node.id, above, (name, node.lineno))
+                        else:
+                            plain = (ast.Constant, ast.List, ast.Tuple, ast.Dict, ast.expr_context)
+                            self.assertIsInstance(node, plain, (name, part.lineno))
+
     def test_l6_l7_statements_and_values(self):
         self.none_of(self.where(lambda node: not isinstance(node, STATEMENTS + EXPRESSIONS + PARTS)))
         self.none_of(self.where(lambda node: isinstance(node, (ast.For, ast.While)) and node.orelse))
